@@ -1,0 +1,1 @@
+"""Notchsafe: sticks to which notches can be added."""

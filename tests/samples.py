@@ -1,0 +1,49 @@
+"""Values that several tests need."""
+
+from itertools import combinations, product
+
+from notchsafe import errors
+from notchsafe.books import Book
+from notchsafe.ways import Way
+
+HOWS = ("add", "lose", "mixed")
+
+
+def example():
+    """The book of section 1 of the document."""
+    return Book([(1, "x.."), (2, ".x."), (5, "xx."), (9, "xxx")])
+
+
+def nested(kind, depth):
+    value = kind()
+    for _ in range(depth - 1):
+        value = kind([value])
+    return value
+
+
+def odd_values():
+    """Values of all kinds, none of which is a stick, a sequence of entries, or an integer from 0 on."""
+    return [
+        None, True, False, -1, -7, "", "0", "1", "y", "X", "x y", " x", "x.\n", "\nx", "o.", "x,", "add ", "Add",
+        [True], (False,), [None], ("x",), ["x.."], [-1], (0, -1), [1, "x"], ((1, ""),), [[1, "x."]], [(True, "x")],
+        nested(list, 8)[0], (nested(tuple, 7),), (nested(list, 7), 1), [nested(tuple, 7), "x"],
+        Book([(3, "x.")]), Book(), example(), Way(), Way("lose", 0, []),
+        errors.NoSum(1), errors.InvalidStick(), errors.InvalidBook([0]),
+    ]
+
+
+def all_sticks(length):
+    """All sticks of a length, ascending."""
+    return ["".join(signs) for signs in product(".x", repeat=length)]
+
+
+def outcomes(stick, how, most, part):
+    """What a stick can become, found by trying all changes, as a slow rule to compare with."""
+    free = range(len(stick)) if part is None else [at for at in range(len(stick)) if at in part]
+    turns = {"add": {".": "x"}, "lose": {"x": "."}, "mixed": {".": "x", "x": "."}}[how]
+    found = set()
+    for many in range(len(stick) + 1 if most is None else most + 1):
+        for places in combinations(free, many):
+            if all(stick[at] in turns for at in places):
+                found.add("".join(turns[sign] if at in places else sign for at, sign in enumerate(stick)))
+    return found

@@ -1,0 +1,141 @@
+"""[1] and [2] the basics, across the modules."""
+
+import unittest
+
+from notchsafe import errors
+from notchsafe.books import Book
+from notchsafe.errors import InvalidBook, InvalidStick, InvalidText, InvalidWay, NoSum
+from notchsafe.frauds import frauds, is_safe, origins, raised, told_sums
+from notchsafe.ways import Way
+from tests.samples import example
+
+
+class Kinds(unittest.TestCase):
+    def test_bools_are_no_integers(self):
+        for value in (True, False):
+            for work in (lambda: Way("add", value), lambda: Way("add", None, [value])):
+                self.assertRaises(InvalidWay, work)
+            self.assertRaises(InvalidBook, Book, [(value, "x")])
+            self.assertRaises(NoSum, Book([(0, "x"), (1, ".")]).stick_of, value)
+            self.assertRaises(NoSum, Book([(0, "x"), (1, ".")]).without, value)
+
+    def test_sticks(self):
+        for stick in (".", "x", "..", "x.", "........", "xxxxxxxx", "x" * 9):
+            self.assertIs(Way().can(stick, stick), True)
+            self.assertEqual(Book([(1, stick)]).length, len(stick))
+            self.assertEqual(origins(Book(), stick, Way()), ())
+        for value in ("", " ", "o", "X", "x,", "x x", "x\n", "1", "-", "xy", None, 0, True, ["x"], ("x",)):
+            with self.subTest(value=value):
+                self.assertRaises(InvalidStick, Way().can, value, "x")
+                self.assertRaises(InvalidStick, origins, Book(), value, Way())
+                self.assertRaises(InvalidBook, Book, [(1, value)])
+
+    def test_no_other_sign_stands_in_a_stick(self):
+        for sign in [chr(code) for code in range(256)] + ["\u2026", "\u00d7", "\u2715", "\uff0e", "\uff58"]:
+            if sign not in ".x":
+                for value in (sign, sign + ".x", ".x" + sign, "." + sign + "x"):
+                    with self.subTest(value=value):
+                        self.assertRaises(InvalidStick, Way().can, value, value)
+                        self.assertRaises(InvalidStick, origins, example(), value, Way())
+                        self.assertRaises(InvalidStick, told_sums, example(), value, Way())
+                        self.assertRaises(InvalidBook, Book, [(1, value)])
+                        if " " <= sign <= "~":
+                            self.assertRaises(InvalidText, Book.read, "1 " + value)
+
+    def test_sequences_are_lists_and_tuples(self):
+        self.assertEqual(Way(part=[1, 0]).part, Way(part=(1, 0)).part)
+        self.assertEqual(Book([(1, "x")]).entries, Book(((1, "x"),)).entries)
+        for value in ("", "01", {}, {0: 1}, {0}, frozenset([0]), range(2), b"", b"0", iter([0]), Book(), None):
+            with self.subTest(value=value):
+                self.assertRaises(InvalidBook, Book, value)
+                if value is not None:
+                    self.assertRaises(InvalidWay, Way, "add", None, value)
+
+    def test_signs_are_in_the_order_of_python(self):
+        self.assertLess(".", "x")
+        self.assertEqual(Book([(2, "."), (1, "x")]).entries, ((1, "x"), (2, ".")))
+
+
+class NeverChanging(unittest.TestCase):
+    def test_nothing_passed_is_changed(self):
+        entries, part = [(5, "x."), (2, ".x")], [1, 0, 1]
+        book, way = Book(entries), Way("mixed", 2, part)
+        Book.read("1 x").without(1)
+        for work in (frauds, is_safe, raised):
+            work(book, way)
+        origins(book, "xx", way)
+        told_sums(book, "xx", way)
+        self.assertEqual(entries, [(5, "x."), (2, ".x")])
+        self.assertEqual(part, [1, 0, 1])
+        self.assertEqual((book.entries, book.length, str(book)), (((2, ".x"), (5, "x.")), 2, "2 .x\n5 x."))
+        self.assertEqual((way.how, way.most, way.part, str(way)), ("mixed", 2, (0, 1), "mixed at most 2 within 0 1"))
+
+    def test_a_wrong_list_is_not_changed(self):
+        entries, part = [(5, "x."), (2, "x."), [1]], [3, 1, -1]
+        self.assertRaises(InvalidBook, Book, entries)
+        self.assertRaises(InvalidWay, Way, "add", None, part)
+        self.assertEqual((entries, part), ([(5, "x."), (2, "x."), [1]], [3, 1, -1]))
+
+    def test_a_list_changed_behind_a_call_changes_nothing(self):
+        entries, part = [(5, "x."), (2, "xx")], [1, 0]
+        book, way = Book(entries), Way("add", None, part)
+        before = frauds(book, way), raised(book, way), origins(book, "xx", way), str(book), str(way)
+        entries.append((9, ".."))
+        entries.reverse()
+        part.pop(0)
+        part.append(7)
+        self.assertEqual((frauds(book, way), raised(book, way), origins(book, "xx", way), str(book), str(way)), before)
+        self.assertEqual(before[0], ((5, 2),))
+
+    def test_same_call_same_result(self):
+        book, way = example(), Way("mixed", 2, [0, 1])
+        calls = (
+            lambda: frauds(book, way), lambda: is_safe(book, way), lambda: raised(book, way),
+            lambda: origins(book, "xx.", way), lambda: told_sums(book, "xx.", way), lambda: book.stick_of(5),
+            lambda: book.sum_of("xx."), lambda: book.without(5).entries, lambda: str(Book([(1, "x.")]).shortened(0)),
+            lambda: (book + Book([(4, "...")])).entries, lambda: str(book), lambda: len(book), lambda: str(way),
+            lambda: way.can("x..", ".x."), lambda: Book.read("1 x").entries,
+        )
+        first = [work() for work in calls]
+        for work in reversed(calls):
+            work()
+        for value in (None, 77, "x"):
+            self.assertRaises(NoSum, book.without, value)
+            self.assertRaises(InvalidStick, way.can, value, "")
+        self.assertEqual([work() for work in calls], first)
+
+    def test_made_books_do_not_change_the_first_one(self):
+        book = example()
+        book.without(5)
+        book + Book([(4, "...")])
+        Book([(4, "...")]) + book
+        self.assertEqual(book.entries, ((1, "x.."), (2, ".x."), (5, "xx."), (9, "xxx")))
+
+
+class NotIterable(unittest.TestCase):
+    def test_objects(self):
+        things = [Book(), example(), Way(), Way("add", 1, [0, 1]), errors.NoSum([1, 2]), errors.InvalidStick(),
+                  errors.InvalidBook((0,)), errors.InvalidWay("how")]
+        for thing in things:
+            with self.subTest(thing=str(thing)):
+                for work in (iter, list, tuple, sorted, lambda rows: [*rows], lambda rows: 1 in rows,
+                             lambda rows: [row for row in rows]):
+                    with self.assertRaises(TypeError):
+                        work(thing)
+
+
+class Truth(unittest.TestCase):
+    def test_told_by_true_or_false(self):
+        for result in (Way().can("x", "x"), Way().can("x", "."), Way().can("x", ".."), Way("add", 0).can(".", "x"),
+                       Way("add", None, []).can(".", "x"), is_safe(Book(), Way()), is_safe(example(), Way()),
+                       Way() == Way(), Way() == 1, Book() == Book(), Book() == ()):
+            self.assertIs(type(result), bool)
+
+    def test_equal_to_no_object_of_another_class(self):
+        self.assertFalse(Way() == Book())
+        self.assertFalse(Book() == Way())
+        self.assertTrue(Way() != Book())
+
+
+if __name__ == "__main__":
+    unittest.main()
