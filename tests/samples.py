@@ -47,3 +47,31 @@ def outcomes(stick, how, most, part):
             if all(stick[at] in turns for at in places):
                 found.add("".join(turns[sign] if at in places else sign for at, sign in enumerate(stick)))
     return found
+
+
+def any_values():
+    """Values of all kinds: those above, and integers, sticks, sequences of them and of other values."""
+    return [
+        *odd_values(), 0, 1, 2, 9, 10 ** 30, ".", "x", "x..", "xxxx", [], (), [[]], ((),), ((), ()), ([], []), [(), ()],
+        ((), (), ()), (((),), ()), ((), ((),)), (1, 2), [1, 2], ((1,), (2,)), ((1,), ((1,),)), ((1, 2), 3), ("x", "x"),
+        (("x",), ("x",)), ((None,), ((None,),)), ((), None), (None, ()), ((True,), ((True,),)), (((1,),), ((1,),)),
+        (Book(), Book()), ((Book(),), ((Book(),),)), ((Way(),), ((Way(),), Way())), ((0, [0]), ([0], (0,))),
+        ((errors.NoSum(1),), ((errors.NoSum(1),),)), (((".", "x"),),), (((".",), ("x",)),), nested(tuple, 8),
+    ]
+
+
+def lies_within(one, other):
+    """Whether all notches of a stick are some, but not all of those of another one."""
+    return one != other and all(sign == "." or above == "x" for sign, above in zip(one, other))
+
+
+def made_book(chance, length, many):
+    """A book of so many entries (or of all sticks, if they are fewer) of a length."""
+    sticks = all_sticks(length)
+    chosen = chance.sample(sticks, min(many, len(sticks)))
+    return Book(list(zip(chance.sample(range(100), len(chosen)), chosen)))
+
+
+def book_of(*sticks):
+    """A book of sticks with the sums 1, 2, 3 and so on."""
+    return Book(list(enumerate(sticks, start=1)))

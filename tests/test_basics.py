@@ -4,8 +4,12 @@ import unittest
 
 from notchsafe import errors
 from notchsafe.books import Book
-from notchsafe.errors import InvalidBook, InvalidStick, InvalidText, InvalidWay, NoSum
+from notchsafe.checks import check_size, checked, fewest_checks, is_checked, with_checks
+from notchsafe.errors import InvalidBook, InvalidStick, InvalidText, InvalidWay, NoStick, NoSum
 from notchsafe.frauds import frauds, is_safe, origins, raised, told_sums
+from notchsafe.middles import all_chains, chains_hold, middle, widest
+from notchsafe.numbers import how_many, number_of, stick_at
+from notchsafe.parts import fewest_rows, greatest_safe, height, longest_row, safe_parts, shows
 from notchsafe.ways import Way
 from tests.samples import example
 
@@ -70,6 +74,30 @@ class NeverChanging(unittest.TestCase):
         self.assertEqual((book.entries, book.length, str(book)), (((2, ".x"), (5, "x.")), 2, "2 .x\n5 x."))
         self.assertEqual((way.how, way.most, way.part, str(way)), ("mixed", 2, (0, 1), "mixed at most 2 within 0 1"))
 
+    def test_nothing_passed_to_parts_and_checks_is_changed(self):
+        book = example()
+        for work in (height, longest_row, safe_parts, fewest_rows, greatest_safe, fewest_checks, with_checks):
+            work(book)
+        value, chains = [[2, 1], [[1, 9, 5], [2]]], [["..", "xx", ".x"], ["x."]]
+        for thing in (value, tuple(value), (tuple(value[0]), value[1]), value[0]):
+            self.assertIs(shows(book, thing), False)
+        for thing in (chains, tuple(chains), chains[0], (tuple(chains[0]), chains[1])):
+            self.assertIs(chains_hold(2, thing), False)
+            self.assertIs(is_checked(2, thing), False)
+        self.assertEqual(value, [[2, 1], [[1, 9, 5], [2]]])
+        self.assertEqual(chains, [["..", "xx", ".x"], ["x."]])
+        self.assertEqual(book.entries, ((1, "x.."), (2, ".x."), (5, "xx."), (9, "xxx")))
+
+    def test_a_list_behind_a_book_changes_no_part(self):
+        entries = [(5, "x."), (2, "xx")]
+        book = Book(entries)
+        works = (height, longest_row, safe_parts, fewest_rows, greatest_safe, fewest_checks, with_checks)
+        before = [work(book) for work in works]
+        entries[0] = (1, "..")
+        entries.append((9, ".x"))
+        self.assertEqual([work(book) for work in works], before)
+        self.assertEqual(before[:5], [2, (5, 2), before[2], ((5, 2),), before[4]])
+
     def test_a_wrong_list_is_not_changed(self):
         entries, part = [(5, "x."), (2, "x."), [1]], [3, 1, -1]
         self.assertRaises(InvalidBook, Book, entries)
@@ -95,6 +123,12 @@ class NeverChanging(unittest.TestCase):
             lambda: book.sum_of("xx."), lambda: book.without(5).entries, lambda: str(Book([(1, "x.")]).shortened(0)),
             lambda: (book + Book([(4, "...")])).entries, lambda: str(book), lambda: len(book), lambda: str(way),
             lambda: way.can("x..", ".x."), lambda: Book.read("1 x").entries,
+            lambda: height(book), lambda: longest_row(book), lambda: safe_parts(book), lambda: fewest_rows(book),
+            lambda: greatest_safe(book), lambda: shows(book, ((1, 2), ((1, 5, 9), (2,)))),
+            lambda: shows(book, ((1, 2), ((1, 5), (2,)))), lambda: widest(5), lambda: middle(4), lambda: all_chains(4),
+            lambda: chains_hold(3, all_chains(3)), lambda: chains_hold(3, all_chains(4)), lambda: how_many(9, 4),
+            lambda: stick_at(9, 4, 77), lambda: number_of("x.x.."), lambda: check_size(8), lambda: checked("x.x"),
+            lambda: is_checked(3, "x.x.x"), lambda: fewest_checks(book), lambda: with_checks(book).entries,
         )
         first = [work() for work in calls]
         for work in reversed(calls):
@@ -102,6 +136,9 @@ class NeverChanging(unittest.TestCase):
         for value in (None, 77, "x"):
             self.assertRaises(NoSum, book.without, value)
             self.assertRaises(InvalidStick, way.can, value, "")
+            self.assertRaises(InvalidStick, number_of, [value])
+            self.assertRaises(InvalidStick, checked, [value])
+            self.assertRaises(NoStick, stick_at, 9, 4, -1)
         self.assertEqual([work() for work in calls], first)
 
     def test_made_books_do_not_change_the_first_one(self):
@@ -110,6 +147,18 @@ class NeverChanging(unittest.TestCase):
         book + Book([(4, "...")])
         Book([(4, "...")]) + book
         self.assertEqual(book.entries, ((1, "x.."), (2, ".x."), (5, "xx."), (9, "xxx")))
+
+
+class Tuples(unittest.TestCase):
+    def test_sequences_that_are_returned(self):
+        for book in (Book(), example(), Book([(3, "x")])):
+            results = [longest_row(book), greatest_safe(book), safe_parts(book), fewest_rows(book)]
+            results += [*safe_parts(book), *fewest_rows(book), with_checks(book).entries]
+            for result in results:
+                self.assertIs(type(result), tuple)
+        for length in (1, 2, 3, 4):
+            for result in (middle(length), all_chains(length), *all_chains(length)):
+                self.assertIs(type(result), tuple)
 
 
 class NotIterable(unittest.TestCase):
@@ -128,7 +177,11 @@ class Truth(unittest.TestCase):
     def test_told_by_true_or_false(self):
         for result in (Way().can("x", "x"), Way().can("x", "."), Way().can("x", ".."), Way("add", 0).can(".", "x"),
                        Way("add", None, []).can(".", "x"), is_safe(Book(), Way()), is_safe(example(), Way()),
-                       Way() == Way(), Way() == 1, Book() == Book(), Book() == ()):
+                       Way() == Way(), Way() == 1, Book() == Book(), Book() == (),
+                       shows(Book(), ((), ())), shows(Book(), ()), shows(Book(), None), shows(example(), ((1,), ((1,),))),
+                       shows(example(), ((), ())), shows(example(), ((1, 2), ((1, 5, 9), (2,)))), chains_hold(1, None),
+                       chains_hold(1, ((),)), chains_hold(1, ((".", "x"),)), is_checked(1, None), is_checked(1, ""),
+                       is_checked(1, "xx"), is_checked(1, "x."), is_checked(1, "x")):
             self.assertIs(type(result), bool)
 
     def test_equal_to_no_object_of_another_class(self):

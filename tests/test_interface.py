@@ -13,6 +13,18 @@ FUNCTIONS = {
         "frauds": ["book", "way"], "is_safe": ["book", "way"], "raised": ["book", "way"],
         "origins": ["book", "stick", "way"], "told_sums": ["book", "stick", "way"],
     },
+    "parts": {
+        "height": ["book"], "longest_row": ["book"], "safe_parts": ["book"], "fewest_rows": ["book"],
+        "greatest_safe": ["book"], "shows": ["book", "value"],
+    },
+    "middles": {
+        "widest": ["length"], "middle": ["length"], "all_chains": ["length"], "chains_hold": ["length", "value"],
+    },
+    "numbers": {"how_many": ["length", "notched"], "stick_at": ["length", "notched", "at"], "number_of": ["stick"]},
+    "checks": {
+        "check_size": ["length"], "checked": ["stick"], "is_checked": ["length", "value"], "fewest_checks": ["book"],
+        "with_checks": ["book"],
+    },
 }
 ERRORS = {
     "StickError": None, "InvalidStick": None, "InvalidCommand": None, "InvalidWay": ["word"], "InvalidBook": ["at"],
