@@ -20,7 +20,7 @@ def checked(stick):
 
 def is_checked(length, value):
     """Whether a value is a stick of a length with its checks."""
-    return is_stick(value) and len(value) > length and value == checked(value[:length])
+    return is_stick(value) and value == checked(value[:length])
 
 
 def fewest_checks(book):

@@ -72,9 +72,9 @@ def longest(rows):
 def rows_to(book):
     """For each sum some longest row that ends with it."""
     rows = {}
-    # An entry can only lie within one with more notches, so those are later.
+    # What lies within an entry has fewer notches, so its row is there by then.
     for value, stick in sorted(book.entries, key=lambda entry: entry[1].count(NOTCHED)):
-        ahead = [rows[told] for told, other in book.entries if told in rows and lies_within(other, stick)]
+        ahead = [rows[told] for told, other in book.entries if lies_within(other, stick)]
         rows[value] = (*longest(ahead), value)
     return rows
 
