@@ -4,6 +4,9 @@ from itertools import combinations, product
 
 from notchsafe import errors
 from notchsafe.books import Book
+from notchsafe.checkrules import CheckRule
+from notchsafe.desk import Desk
+from notchsafe.ledger import Ledger
 from notchsafe.ways import Way
 
 HOWS = ("add", "lose", "mixed")
@@ -27,9 +30,14 @@ def odd_values():
         None, True, False, -1, -7, "", "0", "1", "y", "X", "x y", " x", "x.\n", "\nx", "o.", "x,", "add ", "Add",
         [True], (False,), [None], ("x",), ["x.."], [-1], (0, -1), [1, "x"], ((1, ""),), [[1, "x."]], [(True, "x")],
         nested(list, 8)[0], (nested(tuple, 7),), (nested(list, 7), 1), [nested(tuple, 7), "x"],
-        Book([(3, "x.")]), Book(), example(), Way(), Way("lose", 0, []),
+        Book([(3, "x.")]), Book(), example(), Way(), Way("lose", 0, []), CheckRule(["x"]), CheckRule(("x.", "..")),
+        Ledger(Book()), Ledger(example()), Ledger(example()).trial(), Desk(),
         errors.NoSum(1), errors.InvalidStick(), errors.InvalidBook([0]),
     ]
+
+
+def is_stick(value):
+    return type(value) is str and value != "" and set(value) <= set(".x")
 
 
 def all_sticks(length):

@@ -25,6 +25,7 @@ FUNCTIONS = {
         "check_size": ["length"], "checked": ["stick"], "is_checked": ["length", "value"], "fewest_checks": ["book"],
         "with_checks": ["book"],
     },
+    "comparing": {"alike": ["p", "q"], "turning": ["p", "q"], "needless": ["book"]},
 }
 ERRORS = {
     "StickError": None, "InvalidStick": None, "InvalidCommand": None, "InvalidWay": ["word"], "InvalidBook": ["at"],
@@ -40,6 +41,16 @@ CLASSES = {
         "without": ["self", "value"], "shortened": ["self", "at"], "__len__": None, "__add__": None, "__eq__": None,
         "__str__": None,
     }},
+    "checkrules": {"CheckRule": {
+        "__init__": ["self", "checks"], "put": ["self", "stick"], "is_safe": ["self", "length", "most"],
+        "always_safe": ["self", "most"], "first_unsafe": ["self", "most"], "fraud": ["self", "length", "most"],
+        "__eq__": None, "__str__": None,
+    }},
+    "ledger": {"Ledger": {
+        "__init__": ["self", "book"], "write": ["self", "value"], "notch": ["self", "at", "place"],
+        "several": ["self", "values"], "undo": ["self"], "trial": ["self"], "within": ["self", "work"], "__len__": None,
+    }},
+    "desk": {"Desk": {"__init__": ["self"], "say": ["self", "command"], "__len__": None}},
 }
 
 
@@ -93,6 +104,8 @@ class Interface(unittest.TestCase):
     def test_attributes_are_set_when_the_object_is_made(self):
         self.assertLessEqual({"how", "most", "part"}, set(dir(module("ways").Way())))
         self.assertLessEqual({"entries", "length"}, set(dir(module("books").Book())))
+        self.assertLessEqual({"checks"}, set(vars(module("checkrules").CheckRule(["x"]))))
+        self.assertLessEqual({"book", "sticks", "sums", "totals"}, set(vars(module("ledger").Ledger(module("books").Book()))))
 
     def test_package_file_is_empty_but_for_a_docstring(self):
         tree = ast.parse((PACKAGE / "__init__.py").read_text(encoding="utf-8"))
